@@ -1,0 +1,1 @@
+"""Halls and links that open by letters, and never a ring."""
