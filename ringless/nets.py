@@ -84,6 +84,11 @@ class Net:
             raise NoHall(hall)
         return other if hall == one else one
 
+    def ends(self, link):
+        """The two halls that a link joins, the lesser one first."""
+        one, other, _ = self._link(link)
+        return sorted([one, other])
+
     def cost(self, link):
         """The cost of a link."""
         return self._link(link)[2]

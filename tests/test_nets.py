@@ -32,6 +32,10 @@ class Ordinary(Case):
             self.assertEqual(net.beyond(link, one), other)
             self.assertEqual(net.beyond(link, other), one)
 
+    def test_ends_rise(self):
+        net = ordinary()
+        self.assertEqual([net.ends(link) for link in range(4)], [[7, 12], [12, 40], [7, 12], [7, 40]])
+
     def test_cost(self):
         net = ordinary()
         self.assertEqual([net.cost(link) for link in range(4)], [3, 1, 5, 30])
@@ -41,6 +45,7 @@ class Ordinary(Case):
         self.assertEqual(net, ordinary())
         self.assertEqual(net.doors(hall=40), [1, 3])
         self.assertEqual(net.beyond(hall=40, link=3), 7)
+        self.assertEqual(net.ends(link=3), [7, 40])
         self.assertEqual(net.cost(link=2), 5)
 
 
@@ -126,11 +131,12 @@ class Refusals(Case):
             with self.subTest():
                 self.refused_number(NoHall, thing, net.doors, thing)
 
-    def test_cost_of_no_link(self):
+    def test_cost_and_ends_of_no_link(self):
         net = Net([0, 1, 7], [(0, 1, 3), (1, 7, 3)])
         for thing in NO_NUMBERS + [-1, -2, 2, 12, 10**9999, nested(5000)]:
             with self.subTest():
                 self.refused_number(NoLink, thing, net.cost, thing)
+                self.refused_number(NoLink, thing, net.ends, thing)
 
     def test_beyond_no_link(self):
         net = Net([0, 1, 7], [(0, 1, 3), (1, 7, 3)])
@@ -226,7 +232,7 @@ class Hanging(Case):
 
     def test_lists_that_are_told_are_new(self):
         net = ordinary()
-        for look in (net.halls, net.handed, net.links, lambda: net.doors(7)):
+        for look in (net.halls, net.handed, net.links, lambda: net.doors(7), lambda: net.ends(3)):
             found = look()
             self.assertIs(type(found), list)
             ahead = list(found)

@@ -30,6 +30,26 @@ def nested(deep):
     return thing
 
 
+class Dice:
+    """Numbers that look thrown, the same ones in each run."""
+
+    def __init__(self, seed):
+        self.now = seed * 7919 + 12345
+
+    def roll(self, many):
+        """A number from 0 to many - 1."""
+        self.now = (self.now * 6364136223846793005 + 1442695040888963407) % 2**64
+        return (self.now >> 33) % many
+
+    def pick(self, things):
+        return things[self.roll(len(things))]
+
+    def some(self, things, many):
+        """As many of the things, none twice, in whatever order."""
+        left = list(things)
+        return [left.pop(self.roll(len(left))) for _ in range(many)]
+
+
 def told(thing):
     """A thing with its kind: True is 1, but they are told apart here."""
     return type(thing).__name__, thing
