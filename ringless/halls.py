@@ -114,6 +114,23 @@ class Hall:
         door = self._door(link)
         return None if door is None else door.heard_standing
 
+    def number_heard(self, link):
+        """The number of what was heard last at a door that runs, 0 where nothing was."""
+        return self._running(link).heard_number
+
+    def has_agreed(self, link):
+        """Whether the hall has agreed to what was heard last at a door that runs."""
+        door = self._running(link)
+        return door.heard_number == door.agreed_here
+
+    def number_agreed(self, link):
+        """The greatest number to which the other end of a door that runs has agreed, 0 at first."""
+        return self._running(link).agreed_there
+
+    def would_count(self, link, number):
+        """Whether an agree to a number would count at a door that runs, also where it doesn't lead."""
+        return number >= self._running(link).counts_from
+
     def twin(self):
         """A hall of its own that keeps the same."""
         other = Hall(self._hall, {}, most=self._most, rule=self._rule)

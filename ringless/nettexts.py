@@ -20,7 +20,7 @@ def read_net(text):
     halls = []
     links = []
     for at, row in enumerate(text.split("\n")):
-        words = _words(row)
+        words = words_of(row)
         if _tells(words, "hall", 1) and not links:
             halls.append(int(words[1]))
         elif _tells(words, "link", 3):
@@ -30,20 +30,22 @@ def read_net(text):
     return Net(halls, links)
 
 
-def _words(row):
+def words_of(row):
+    """The words of a row, parted by a blank or more."""
     # Only blanks part words: split() without a blank would take other signs for blanks, too.
     return [word for word in row.split(" ") if word]
 
 
 def _tells(words, first, many):
-    return len(words) == 1 + many and words[0] == first and all([_is_figures(word) for word in words[1:]])
+    return len(words) == 1 + many and words[0] == first and all([is_figures(word, MOST_FIGURES) for word in words[1:]])
 
 
-def _is_figures(word):
+def is_figures(word, most):
+    """Whether a word is a number of at most so many figures, without a nought ahead of others."""
     # isdigit alone would take figures of other scripts.
     return (
         word.isascii()
         and word.isdigit()
-        and len(word) <= MOST_FIGURES
+        and len(word) <= most
         and (word == "0" or not word.startswith("0"))
     )

@@ -36,6 +36,7 @@ class Weave:
         # Of all halls, rising; None is what a stopped one knows.
         self._halls = {hall: self._new_hall(hall, []) for hall in net.halls()}
         self._post = Post(net)
+        self._posted = []
         self._log = []
         self._notes = []
         for hall, inside in self._halls.items():
@@ -44,6 +45,7 @@ class Weave:
     def take(self, link, hall):
         """Let a hall take the first letter that comes to it by a link."""
         letter = self._post.take(link, hall)
+        self._posted = []
         self._send(hall, self._halls[hall].take(link, letter))
         self._log.append(("take", link, hall))
 
@@ -53,6 +55,7 @@ class Weave:
         if link in self._cut_links:
             raise Cut(link)
         ran = self._runs(link)
+        self._posted = []
         self._cut_links.append(link)
         self._post.lose(link)
         if ran:
@@ -65,6 +68,7 @@ class Weave:
         ends = self._net.ends(link)
         if link not in self._cut_links:
             raise Runs(link)
+        self._posted = []
         self._cut_links.remove(link)
         if self._runs(link):
             for hall in ends:
@@ -77,6 +81,7 @@ class Weave:
         if self._halls[hall] is None:
             raise Stopped(hall)
         ran = [link for link in links if self._runs(link)]
+        self._posted = []
         self._halls[hall] = None
         for link in links:
             self._post.lose(link)
@@ -92,6 +97,7 @@ class Weave:
             raise Stands(hall)
         # The hall itself is still stopped here, so it is asked for the one beyond alone.
         runs = [link for link in links if self._may_run(link, self._net.beyond(link, hall))]
+        self._posted = []
         self._halls[hall] = self._new_hall(hall, [link for link in links if link not in runs])
         self._send(hall, self._halls[hall].posted())
         for link in runs:
@@ -106,12 +112,34 @@ class Weave:
         self._notes.append(("begin", len(deeds)))
         try:
             for deed in deeds:
-                self._do_one(deed)
+                self.lead(deed)
         except RingError:
             self._be_like(ahead)
             self._notes.append(("end", False))
             raise
         self._notes.append(("end", True))
+
+    def lead(self, deed):
+        """Do a deed that is told as a tuple."""
+        word, *things = deed
+        if word == "take":
+            self.take(things[0], things[1])
+        elif word == "cut":
+            self.cut(things[0])
+        elif word == "mend":
+            self.mend(things[0])
+        elif word == "stop":
+            self.stop(things[0])
+        else:
+            self.start(things[0])
+
+    def posted(self):
+        """What the last deed posted and what wasn't lost: the list of (link, from, told letter), in order."""
+        return list(self._posted)
+
+    def inside(self, hall):
+        """The Hall of a hall that stands, to be looked at alone."""
+        return self._halls[hall]
 
     def notes(self):
         """The notes of both ends of each do: ("begin", how many deeds), ("end", whether they were done)."""
@@ -170,20 +198,8 @@ class Weave:
         self._cut_links = list(other._cut_links)
         self._halls = {hall: None if inside is None else inside.twin() for hall, inside in other._halls.items()}
         self._post = other._post.twin()
+        self._posted = list(other._posted)
         self._log = list(other._log)
-
-    def _do_one(self, deed):
-        word, *things = deed
-        if word == "take":
-            self.take(things[0], things[1])
-        elif word == "cut":
-            self.cut(things[0])
-        elif word == "mend":
-            self.mend(things[0])
-        elif word == "stop":
-            self.stop(things[0])
-        else:
-            self.start(things[0])
 
     def _new_hall(self, hall, cut):
         doors = {link: (self._net.beyond(link, hall), self._net.cost(link)) for link in self._net.doors(hall)}
@@ -194,6 +210,7 @@ class Weave:
         for link, letter in posts:
             if self._runs(link):
                 self._post.send(link, hall, letter)
+                self._posted.append((link, hall, letter.told()))
 
     def _runs(self, link):
         return all([self._may_run(link, hall) for hall in self._net.ends(link)])

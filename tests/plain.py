@@ -164,6 +164,8 @@ class PlainWeave:
         self.cut = []
         self.rows = {(link, hall): [] for link, ends in enumerate(net.links()) for hall in sorted(ends[:2])}
         self.halls = {hall: self.hall(hall, []) for hall in net.halls()}
+        # What the last deed posted and what wasn't lost: (link, from, letter told).
+        self.posted = []
         for hall in net.halls():
             self.post(hall, self.halls[hall].posts[0])
 
@@ -179,6 +181,7 @@ class PlainWeave:
         for link, letter in posts:
             if self.runs(link):
                 self.rows[(link, self.net.beyond(link, hall))].append(letter)
+                self.posted.append((link, hall, letter))
 
     def lose(self):
         for door, row in self.rows.items():
@@ -187,6 +190,7 @@ class PlainWeave:
 
     def do(self, word, *things):
         """Do a deed that isn't refused."""
+        self.posted = []
         if word == "take":
             letter = self.rows[things].pop(0)
             self.post(things[1], self.halls[things[1]].step("take", things[0], letter))
@@ -222,6 +226,34 @@ class PlainWeave:
             if link not in cut:
                 beyond = self.net.beyond(link, hall)
                 self.post(beyond, self.halls[beyond].step("mend", link))
+
+    def counts(self, link, hall, number):
+        """Whether an agree to a number would count at a door."""
+        inside = self.halls[hall]
+        return number >= inside.counts_from(link, len(inside.steps) - 1)
+
+    def door_mark(self, link, hall):
+        """What the document has a mark tell of a door that runs."""
+        inside = self.halls[hall]
+        at = len(inside.steps) - 1
+        agrees = [letter[1] for letter in inside.taken(link, at, "agree")]
+        sign = [inside.role(link, at), inside.is_open(link), self.counts(link, hall, max(agrees, default=0))]
+        for _, number, root, far in inside.taken(link, at, "say")[-1:]:
+            # Behind the last step, that is ahead of the next one.
+            agreed = inside.agreed_to(link, at + 1) == number
+            sign += [root, far, agreed, self.counts(link, self.net.beyond(link, hall), number)]
+        return sign
+
+    def mark(self):
+        """What the document has the mark of a weave tell, as a text."""
+        told = [sorted(self.cut), [hall for hall in self.net.halls() if hall not in self.halls]]
+        for (link, hall), row in sorted(self.rows.items()):
+            if self.runs(link):
+                told.append([link, hall, self.door_mark(link, hall)])
+            for word, number, *standing in row:
+                at = self.net.beyond(link, hall) if word == "say" else hall
+                told.append([link, hall, word, standing, self.counts(link, at, number)])
+        return str(told)
 
     def looks(self):
         """All that a weave lets be seen of halls and letters."""
