@@ -29,8 +29,8 @@ def replayed(net, log):
     if wrong is not None:
         raise BadLog(wrong)
     weave = Weave(net)
-    for deed, _, _ in log:
-        weave.lead(deed)
+    for row in log:
+        weave.lead(row[0])
     return weave
 
 

@@ -159,16 +159,16 @@ class Weave:
 
     def roles(self):
         """A dict from the doors of the halls that stand, rising, to their roles."""
-        return {(link, hall): self._halls[hall].role(link) for link, hall in self._doors()}
+        return {(link, hall): self._halls[hall].role(link) for link, hall in self._standing_doors()}
 
     def open_doors(self):
         """The rising list of the doors that are open."""
-        return [(link, hall) for link, hall in self._doors() if self._halls[hall].is_open(link)]
+        return [(link, hall) for link, hall in self._standing_doors() if self._halls[hall].is_open(link)]
 
     def open_links(self):
         """The rising list of the links of which both doors are open."""
         doors = self.open_doors()
-        return [link for link in self._links() if all([(link, hall) in doors for hall in self._net.ends(link)])]
+        return [link for link in self._all_links() if all([(link, hall) in doors for hall in self._net.ends(link)])]
 
     def cuts(self):
         """The rising list of the links that are cut."""
@@ -219,10 +219,10 @@ class Weave:
         """Whether a link runs as far as one of its halls is asked."""
         return link not in self._cut_links and self._halls[hall] is not None
 
-    def _links(self):
+    def _all_links(self):
         return list(range(len(self._net.links())))
 
-    def _doors(self):
+    def _standing_doors(self):
         """The rising list of the doors of the halls that stand."""
-        doors = [(link, hall) for link in self._links() for hall in self._net.ends(link)]
+        doors = [(link, hall) for link in self._all_links() for hall in self._net.ends(link)]
         return [(link, hall) for link, hall in doors if self._halls[hall] is not None]

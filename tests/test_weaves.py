@@ -468,6 +468,21 @@ class Looks(Case):
         weave.take(1, 5)
         self.assertEqual((weave.open_doors(), weave.open_links()), ([(0, 3), (0, 7), (1, 5)], [0]))
 
+    def test_posted_by_the_last_deed(self):
+        weave = woven()
+        self.assertEqual(len(weave.posted()), 6)
+        weave.take(0, 7)
+        posted = [(0, 7, ("say", 2, 3, 2)), (0, 7, ("agree", 1)), (1, 7, ("say", 2, 3, 2)), (2, 7, ("say", 2, 3, 2))]
+        self.assertEqual(weave.posted(), posted)
+        weave.posted().clear()
+        twin = weave.twin()
+        self.assertEqual((weave.posted(), twin.posted()), (posted, posted))
+        self.refused(Cut, weave.do, [("cut", 0), ("cut", 0)])
+        self.assertEqual(weave.posted(), posted)
+        self.refused(Runs, weave.mend, 0)
+        weave.stop(9)
+        self.assertEqual((weave.posted(), twin.posted()), ([], posted))
+
     def test_a_twin_has_all_the_same(self):
         for rule in RULES:
             weave = woven(*FIRST, ("cut", 1), ("stop", 9), rule=rule)
